@@ -1,0 +1,1 @@
+"""Craft on one water: who lies ahead of whom, and who passes whom when."""
