@@ -18,6 +18,16 @@ WORDS = re.compile(
     r"\b(type|typing|typing_extensions|enum|Enum|IntEnum|StrEnum|Flag|IntFlag|Generic|Protocol|ABC|ABCMeta"
     r"|namedtuple|NamedTuple|TypedDict|TYPE_CHECKING|abstractmethod)\b|dataclass|overload|contextmanager"
 )
+LIST_METHODS = set(
+    "append clear copy count endswith extend find get index insert isalnum isalpha isdigit islower isspace isupper "
+    "items join keys ljust lower lstrip partition pop remove replace reverse rfind rjust rpartition rsplit rstrip "
+    "setdefault split splitlines startswith strip update upper values zfill bit_length".split()
+)
+NO_ATTRIBUTES = set(
+    "items keys values pop update append clear extend insert remove reverse setdefault sort args encode decode hex "
+    "fromhex format format_map mro register elements open input".split()
+)
+MODULE_LEVEL = (ast.Expr, ast.ImportFrom, ast.FunctionDef, ast.ClassDef, ast.Assign)
 BARRED = (ast.Div, ast.NamedExpr, ast.Global, ast.AsyncFunctionDef, ast.AsyncFor, ast.AsyncWith, ast.Await, ast.Import)
 
 
@@ -34,6 +44,25 @@ def bound_names(tree):
             yield node.arg
         elif isinstance(node, (ast.FunctionDef, ast.ClassDef)):
             yield node.name
+
+
+def trees():
+    return {path.stem: ast.parse(path.read_text(encoding="utf-8")) for path in files()}
+
+
+def methods_of(tree):
+    return {node.name for group in ast.walk(tree) if isinstance(group, ast.ClassDef)
+            for node in group.body if isinstance(node, ast.FunctionDef)}
+
+
+def attributes_of(tree):
+    """Every attribute that a file assigns."""
+    return {node.attr for node in ast.walk(tree)
+            if isinstance(node, ast.Attribute) and isinstance(node.ctx, ast.Store)}
+
+
+def imports_of(tree):
+    return [node for node in ast.walk(tree) if isinstance(node, ast.ImportFrom)]
 
 
 class Language(unittest.TestCase):
@@ -89,8 +118,7 @@ class Language(unittest.TestCase):
             with self.subTest(path.name):
                 text = path.read_text(encoding="utf-8")
                 tree = ast.parse(text)
-                methods = [node.name for group in ast.walk(tree) if isinstance(group, ast.ClassDef)
-                           for node in group.body if isinstance(node, ast.FunctionDef)]
+                methods = methods_of(tree)
                 for name in bound_names(tree):
                     if name not in METHODS:
                         self.assertRegex(name, r"^[A-Za-z][A-Za-z0-9_]*$")
@@ -112,6 +140,42 @@ class Language(unittest.TestCase):
                 for node in ast.walk(ast.parse(text)):
                     if isinstance(node, ast.Name) and hasattr(builtins, node.id):
                         self.assertIn(node.id, BUILTINS)
+
+    def test_no_name_is_a_method_here_and_an_attribute_there(self):
+        methods = set().union(*[methods_of(tree) for tree in trees().values()])
+        attributes = set().union(*[attributes_of(tree) for tree in trees().values()])
+        self.assertEqual(methods & attributes, set())
+        self.assertEqual(attributes & NO_ATTRIBUTES, set())
+        for tree in trees().values():
+            for node in ast.walk(tree):
+                if isinstance(node, ast.Attribute) and node.attr not in METHODS:
+                    self.assertIn(node.attr, methods | attributes | LIST_METHODS)
+
+    def test_no_local_name_is_a_class_or_an_import_of_its_file(self):
+        for file, tree in trees().items():
+            imported = [name.name for node in imports_of(tree) for name in node.names]
+            bound = imported + list(bound_names(tree))
+            for name in imported + [node.name for node in tree.body if isinstance(node, ast.ClassDef)]:
+                self.assertEqual(bound.count(name), 1, f"{file}: {name}")
+
+    def test_imports_stand_at_the_top_and_in_no_circle(self):
+        sources = {}
+        for file, tree in trees().items():
+            self.assertEqual(len(imports_of(tree)), len([node for node in tree.body if isinstance(node, ast.ImportFrom)]))
+            sources[file] = {node.module.split(".")[-1] for node in imports_of(tree)}
+        while sources:
+            free = [file for file in sources if not sources[file] & set(sources)]
+            self.assertNotEqual(free, [], f"a circle among {sorted(sources)}")
+            sources = {file: sources[file] for file in sources if file not in free}
+
+    def test_nothing_runs_at_module_level(self):
+        for file, tree in trees().items():
+            for node in tree.body:
+                self.assertIsInstance(node, MODULE_LEVEL, file)
+                if isinstance(node, ast.Expr):
+                    self.assertIsInstance(node.value, ast.Constant)
+                if isinstance(node, ast.Assign):
+                    self.assertFalse(any(isinstance(part, ast.Call) for part in ast.walk(node)))
 
 
 if __name__ == "__main__":
