@@ -4,7 +4,7 @@ from overhaul.bells import Bells
 from overhaul.errors import BadMoment, BadName, Full, NoCraft, NotThere, Past, Taken, TooFar
 from overhaul.legs import NOUGHT, lies_behind, meeting, place_on
 from overhaul.logs import Log
-from overhaul.moments import less, minus, shared
+from overhaul.moments import in_lowest_terms, less, minus
 from overhaul.names import good_name
 
 FARTHEST = 1000000
@@ -17,7 +17,7 @@ FINEST = 60
 def good_moment(moment):
     """Whether a pair of whole numbers is a moment to which a clock may ever go."""
     top, bottom = moment
-    if bottom < 1 or bottom > FINEST or shared(top, bottom) != 1:
+    if bottom > FINEST or not in_lowest_terms(moment):
         return False
     return 0 <= top <= LATEST * bottom
 

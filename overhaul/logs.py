@@ -2,7 +2,7 @@
 
 from overhaul.errors import NotThere
 from overhaul.legs import place_on
-from overhaul.moments import less
+from overhaul.moments import last_by, less
 
 
 class Log:
@@ -46,11 +46,8 @@ class Log:
         """The leg that the craft is on at a moment."""
         if not self.there(moment):
             raise NotThere("the craft is not there at that moment")
-        at = len(self.rows) - 1
         # The first leg is no later than any moment at which the craft is there.
-        while less(moment, self.rows[at][0]):
-            at -= 1
-        return self.rows[at]
+        return self.rows[last_by(self.rows, moment)]
 
     def place(self, moment):
         """The place of the craft at a moment."""

@@ -48,6 +48,19 @@ def less(one, two):
     return one[0] * two[1] < two[0] * one[1]
 
 
+def in_lowest_terms(pair):
+    """Whether a tuple of two whole numbers is a fraction as it is told here."""
+    return pair[1] >= 1 and shared(pair[0], pair[1]) == 1
+
+
+def last_by(rows, moment):
+    """The index of the last row whose moment, its first item, is no later; -1 where none is. Their moments rise."""
+    at = len(rows) - 1
+    while at >= 0 and less(moment, rows[at][0]):
+        at -= 1
+    return at
+
+
 def floor_of(one):
     """The greatest whole number that is no greater than the fraction."""
     return one[0] // one[1]

@@ -27,6 +27,7 @@ NO_ATTRIBUTES = set(
     "items keys values pop update append clear extend insert remove reverse setdefault sort args encode decode hex "
     "fromhex format format_map mro register elements open input".split()
 )
+TAKERS = ("list", "tuple", "dict", "sorted", "sum", "any", "all", "enumerate", "zip")
 MODULE_LEVEL = (ast.Expr, ast.ImportFrom, ast.FunctionDef, ast.ClassDef, ast.Assign)
 BARRED = (ast.Div, ast.NamedExpr, ast.Global, ast.AsyncFunctionDef, ast.AsyncFor, ast.AsyncWith, ast.Await, ast.Import)
 
@@ -161,7 +162,7 @@ class Language(unittest.TestCase):
     def test_imports_stand_at_the_top_and_in_no_circle(self):
         sources = {}
         for file, tree in trees().items():
-            self.assertEqual(len(imports_of(tree)), len([node for node in tree.body if isinstance(node, ast.ImportFrom)]))
+            self.assertEqual([node for node in imports_of(tree) if node not in tree.body], [])
             sources[file] = {node.module.split(".")[-1] for node in imports_of(tree)}
         while sources:
             free = [file for file in sources if not sources[file] & set(sources)]
@@ -176,6 +177,41 @@ class Language(unittest.TestCase):
                     self.assertIsInstance(node.value, ast.Constant)
                 if isinstance(node, ast.Assign):
                     self.assertFalse(any(isinstance(part, ast.Call) for part in ast.walk(node)))
+
+    def test_errors_are_created_on_the_spot_and_caught_by_name(self):
+        refusals = {node.name for node in trees()["errors"].body if isinstance(node, ast.ClassDef)}
+        for file, tree in trees().items():
+            for node in ast.walk(tree):
+                if isinstance(node, ast.Raise) and node.exc is not None:
+                    self.assertIsInstance(node.exc, ast.Call, file)
+                    self.assertIn(node.exc.func.id, refusals)
+                    self.assertIsInstance(node.cause, (ast.Name, type(None)))
+                if isinstance(node, ast.ExceptHandler):
+                    self.assertIn(node.type.id, refusals, file)
+
+    def test_what_is_iterated_at_once_is_not_stored(self):
+        for file, tree in trees().items():
+            at_once = set()
+            for node in ast.walk(tree):
+                if isinstance(node, (ast.For, ast.comprehension)):
+                    at_once.add(node.iter)
+                if isinstance(node, ast.Call) and isinstance(node.func, ast.Name) and node.func.id in TAKERS:
+                    at_once.update(node.args[:1])
+            for node in ast.walk(tree):
+                if isinstance(node, ast.Call):
+                    name = node.func.id if isinstance(node.func, ast.Name) else node.func.attr
+                    if name in ("zip", "enumerate", "reversed", "range", "items", "keys", "values"):
+                        self.assertIn(node, at_once, f"{file}: line {node.lineno}")
+
+    def test_no_decorators_no_annotations_no_defaults_that_are_not_plain(self):
+        for file, tree in trees().items():
+            for node in ast.walk(tree):
+                self.assertNotIsInstance(node, (ast.AnnAssign, ast.Yield, ast.YieldFrom, ast.Set, ast.SetComp), file)
+                if isinstance(node, (ast.FunctionDef, ast.ClassDef)):
+                    self.assertEqual(node.decorator_list, [])
+                if isinstance(node, ast.FunctionDef):
+                    self.assertEqual(node.args.posonlyargs, [])
+                    self.assertTrue(all(isinstance(value, ast.Constant) for value in node.args.defaults))
 
 
 if __name__ == "__main__":

@@ -6,7 +6,9 @@ from fractions import Fraction
 
 from checked import Checked, told
 from overhaul.errors import BadMoment
-from overhaul.moments import floor_of, fraction, half_way, less, minus, plus, shared, times
+from overhaul.moments import (
+    floor_of, fraction, half_way, in_lowest_terms, last_by, less, minus, plus, shared, times,
+)
 
 GREAT = 10 ** 40 + 7
 GREATER = 3 ** 101
@@ -185,6 +187,23 @@ class Comparing(unittest.TestCase):
         for one in FRACTIONS:
             self.assertEqual(floor_of(one), math.floor(Fraction(*one)))
             self.assertIs(type(floor_of(one)), int)
+
+
+class Forms(unittest.TestCase):
+    def test_lowest_terms(self):
+        for pair in (*FRACTIONS, (0, 1), (-7, 2), (1, 61)):
+            self.assertIs(in_lowest_terms(pair), True)
+        for pair in ((0, 0), (1, 0), (-1, 0), (0, 2), (2, 2), (-6, 4), (1, -1), (0, -1), (-1, -2), (GREAT, GREAT)):
+            self.assertIs(in_lowest_terms(pair), False)
+
+    def test_the_last_row_by_a_moment(self):
+        rows = [((-1, 2), "a"), ((3, 1), "b"), ((10, 3), "c")]
+        for moment, at in (
+            ((-1, 1), -1), ((-1, 2), 0), ((0, 1), 0), ((3, 1), 1), ((19, 6), 1), ((10, 3), 2), ((GREAT, 1), 2),
+        ):
+            self.assertEqual(last_by(rows, moment), at)
+        self.assertEqual(last_by([], (0, 1)), -1)
+        self.assertEqual(len(rows), 3)
 
 
 if __name__ == "__main__":
